@@ -39,9 +39,6 @@ type Quota struct{ Entries, Names, Bytes int }
 // File is a file, or a folder ("/" behind its path, no data).
 type File struct{ Path, Data string }
 
-// List tells an archive's directory (P4).
-func List(archive string, q Quota) ([]Entry, Errno) { return nil, OK }
-
 // Unpack tells what an archive has (P5).
 func Unpack(archive string, q Quota) ([]File, Errno) { return nil, OK }
 
