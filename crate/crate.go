@@ -39,9 +39,6 @@ type Quota struct{ Entries, Names, Bytes int }
 // File is a file, or a folder ("/" behind its path, no data).
 type File struct{ Path, Data string }
 
-// Unpack tells what an archive has (P5).
-func Unpack(archive string, q Quota) ([]File, Errno) { return nil, OK }
-
 // Store keeps what was unpacked.
 type Store struct{}
 

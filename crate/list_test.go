@@ -65,26 +65,31 @@ func (it item) with(name string) item {
 func TestListOfArchivesOfAnotherWriter(t *testing.T) {
 	r := rand.New(rand.NewSource(4))
 	for count := range 40 {
-		var b bytes.Buffer
-		w := zip.NewWriter(&b)
-		for i := range count {
-			if r.Intn(4) == 0 {
-				w.Create(fmt.Sprintf("folder%d/", i))
-				continue
-			}
-			name := fmt.Sprintf("folder%d/file%d", r.Intn(9)+1000, i)
-			text := make([]byte, r.Intn(2000)*r.Intn(2))
-			for j := range text {
-				text[j] = byte(r.Intn(1 + r.Intn(200)))
-			}
-			f, _ := w.CreateHeader(&zip.FileHeader{Name: name, Method: uint16(8 * r.Intn(2)), Comment: "remark"})
-			f.Write(text)
-		}
-		w.SetComment(strings.Repeat("c", r.Intn(101)))
-		w.Close()
-		archive := b.String()
+		archive := writtenByLibrary(r, count)
 		lists(t, fmt.Sprint(count, " entries"), archive, anything, listByLibrary(t, archive))
 	}
+}
+
+// writtenByLibrary is an archive of so many entries.
+func writtenByLibrary(r *rand.Rand, count int) string {
+	var b bytes.Buffer
+	w := zip.NewWriter(&b)
+	for i := range count {
+		if r.Intn(4) == 0 {
+			w.Create(fmt.Sprintf("folder%d/", i))
+			continue
+		}
+		name := fmt.Sprintf("folder%d/file%d", r.Intn(9)+1000, i)
+		text := make([]byte, r.Intn(2000)*r.Intn(2))
+		for j := range text {
+			text[j] = byte(r.Intn(1 + r.Intn(200)))
+		}
+		f, _ := w.CreateHeader(&zip.FileHeader{Name: name, Method: uint16(8 * r.Intn(2)), Comment: "remark"})
+		f.Write(text)
+	}
+	w.SetComment(strings.Repeat("c", r.Intn(101)))
+	w.Close()
+	return b.String()
 }
 
 func listByLibrary(t *testing.T, archive string) []crate.Entry {

@@ -1,6 +1,9 @@
 package crate
 
-import "strings"
+import (
+	"cmp"
+	"strings"
+)
 
 const longestName = 60
 
@@ -34,6 +37,25 @@ func isFolder(name string) bool {
 // pathOf tells a name without what says that it is a folder's.
 func pathOf(name string) string {
 	return strings.TrimSuffix(name, "/")
+}
+
+// comparePaths puts paths in the order of their parts, so that all in a folder
+// stands behind it, ahead of whatever has a longer part in the folder's stead.
+func comparePaths(a, b string) int {
+	for i := range min(len(a), len(b)) {
+		if a[i] != b[i] {
+			return cmp.Compare(rankInPath(a[i]), rankInPath(b[i]))
+		}
+	}
+	return cmp.Compare(len(a), len(b))
+}
+
+// rankInPath puts the end of a part ahead of every byte that could lengthen it.
+func rankInPath(b byte) byte {
+	if b == '/' {
+		return 0
+	}
+	return b
 }
 
 // pathUse is what a path is in the names that were looked at so far.

@@ -1,6 +1,8 @@
 package crate_test
 
 import (
+	"slices"
+	"strings"
 	"testing"
 
 	"crate/crate"
@@ -19,11 +21,22 @@ type draft struct {
 // soundDraft has nothing wrong: each fault below finds items of its own in it.
 func soundDraft() draft {
 	d := draft{disk: low(0, 2), q: anything}
-	for _, name := range []string{"first", "second", "one", "other", "head", "touched P", "touching"} {
+	for _, name := range []string{"first", "second", "one", "other", "head", "packed", "packed too", "plain", "touched P", "touching"} {
 		d.items = append(d.items, stored(name, name))
+	}
+	for i := firstPacked; i <= secondPacked; i++ {
+		text := d.items[i].name
+		d.items[i] = deflated(text, (&packer{}).fixed(lastBlock).text(text).letter(256).String(), text)
 	}
 	return d
 }
+
+// Those that List finds nothing wrong with, whatever their bytes give.
+const (
+	firstPacked = iota + 5
+	secondPacked
+	plainBehind
+)
 
 func (d draft) archive() string {
 	l := lay(d.items...)
@@ -50,15 +63,18 @@ func (d draft) overlapped() layout {
 	return l
 }
 
-// faults are all that can be wrong, in the order in which they are told.
-var faults = []struct {
+// fault is a thing that can be wrong, and what must be told of it.
+type fault struct {
 	name string
 	e    crate.Errno
 	make func(d *draft)
-}{
+}
+
+// faults are all that List tells, in the order in which they are told.
+var faults = []fault{
 	{"no end", crate.ErrEnd, func(d *draft) { d.cut = true }},
 	{"a disk", crate.ErrDisk, func(d *draft) { d.disk = low(1, 2) }},
-	{"too many entries", crate.ErrQuota, func(d *draft) { d.q.Entries = 6 }},
+	{"too many entries", crate.ErrQuota, func(d *draft) { d.q.Entries = 9 }},
 	{"the directory's place", crate.ErrDirectory, func(d *draft) { d.gap = "x" }},
 	{"the first one's mark", crate.ErrDirectory, func(d *draft) { d.items[0].markless = true }},
 	{"the first one's disk", crate.ErrDisk, func(d *draft) { d.items[0].disk = 1 }},
@@ -78,7 +94,25 @@ var faults = []struct {
 	{"too many bytes", crate.ErrQuota, func(d *draft) { d.q.Bytes = 5 }},
 }
 
-func TestListTellsTheFirstFault(t *testing.T) {
+// unpackFaults are what Unpack tells behind these.
+var unpackFaults = []fault{
+	{"the first one's block", crate.ErrData, func(d *draft) { d.items[firstPacked].data = "\x07" + d.items[firstPacked].data }},
+	{"the first one's size", crate.ErrSize, func(d *draft) { d.items[firstPacked].size-- }},
+	{"a byte behind the first one", crate.ErrData, func(d *draft) { d.items[firstPacked].data += "x" }},
+	{"the first one's sum", crate.ErrSum, func(d *draft) { d.items[firstPacked].sum ^= 1 }},
+	{"the second one's bytes", crate.ErrData, func(d *draft) { d.items[secondPacked].data = "" }},
+	{"the second one's size", crate.ErrSize, func(d *draft) { d.items[secondPacked].size++ }},
+	{"a byte behind the second one", crate.ErrData, func(d *draft) { d.items[secondPacked].data += "\x00" }},
+	{"the second one's sum", crate.ErrSum, func(d *draft) { d.items[secondPacked].sum ^= 1 << 31 }},
+	{"a plain one's sum", crate.ErrSum, func(d *draft) { d.items[plainBehind].sum = 0 }},
+}
+
+// refusal holds a call against an error.
+type refusal func(t *testing.T, what, archive string, q crate.Quota, want crate.Errno)
+
+// tellsTheFirst: of faults in their order, the first that is there is told.
+func tellsTheFirst(t *testing.T, faults []fault, refuses refusal) {
+	t.Helper()
 	for i := range faults {
 		// With each other one that is told later, and with all of these.
 		for j := i; j <= len(faults); j++ {
@@ -90,11 +124,30 @@ func TestListTellsTheFirstFault(t *testing.T) {
 					name += ", " + faults[k].name
 				}
 			}
-			refusesList(t, name, d.archive(), d.q, faults[i].e)
+			refuses(t, name, d.archive(), d.q, faults[i].e)
 		}
 	}
+}
+
+func TestListTellsTheFirstFault(t *testing.T) {
+	tellsTheFirst(t, faults, refusesList)
 	d := soundDraft()
 	lists(t, "no fault", d.archive(), d.q, lay(d.items...).told)
+	for _, f := range unpackFaults {
+		f.make(&d)
+		lists(t, "what List does not look at: "+f.name, d.archive(), d.q, lay(d.items...).told)
+	}
+}
+
+func TestUnpackTellsTheFirstFault(t *testing.T) {
+	tellsTheFirst(t, slices.Concat(faults, unpackFaults), refusesUnpack)
+	d := soundDraft()
+	var want []crate.File
+	for _, it := range d.items {
+		want = append(want, crate.File{Path: it.name, Data: it.name})
+	}
+	slices.SortFunc(want, func(a, b crate.File) int { return strings.Compare(a.Path, b.Path) })
+	unpacks(t, "no fault", d.archive(), d.q, want...)
 }
 
 // TestEntryTellsItsFirstFault: faults of one entry that the list above has not.
