@@ -92,14 +92,19 @@ func writtenByLibrary(r *rand.Rand, count int) string {
 	return b.String()
 }
 
-func listByLibrary(t *testing.T, archive string) []crate.Entry {
+func readByLibrary(t *testing.T, archive string) []*zip.File {
 	t.Helper()
 	reader, err := zip.NewReader(strings.NewReader(archive), int64(len(archive)))
 	if err != nil {
 		t.Fatal(err)
 	}
+	return reader.File
+}
+
+func listByLibrary(t *testing.T, archive string) []crate.Entry {
+	t.Helper()
 	var entries []crate.Entry
-	for _, f := range reader.File {
+	for _, f := range readByLibrary(t, archive) {
 		place, _ := f.DataOffset()
 		entries = append(entries, crate.Entry{
 			Name: f.Name, Method: int(f.Method), Sum: f.CRC32, Packed: int(f.CompressedSize64), Size: int(f.UncompressedSize64), Place: int(place),
@@ -108,16 +113,21 @@ func listByLibrary(t *testing.T, archive string) []crate.Entry {
 	return entries
 }
 
+// lessThan are quotas of which at least one thing is less than in another.
+func lessThan(q crate.Quota) []crate.Quota {
+	return []crate.Quota{
+		{Entries: q.Entries - 1, Names: q.Names, Bytes: q.Bytes}, {Entries: q.Entries, Names: q.Names - 1, Bytes: q.Bytes}, {Entries: q.Entries, Names: q.Names, Bytes: q.Bytes - 1},
+		{Entries: -1, Names: q.Names, Bytes: q.Bytes}, {Entries: q.Entries, Names: -1, Bytes: q.Bytes}, {Entries: q.Entries, Names: q.Names, Bytes: -1},
+		{}, {Entries: math.MinInt, Names: math.MinInt, Bytes: math.MinInt},
+	}
+}
+
 func TestListQuotas(t *testing.T) {
 	l := lay(stored("a", "data"), stored("folder/", ""), deflated("bcd", "p", "123456789"))
 	just := crate.Quota{Entries: 3, Names: 1 + 7 + 3, Bytes: 4 + 9}
 	lists(t, "just met", l.archive(), just, l.told)
 	lists(t, "just met, wide", l.wideArchive(), just, l.told)
-	for _, q := range []crate.Quota{
-		{Entries: 2, Names: 11, Bytes: 13}, {Entries: 3, Names: 10, Bytes: 13}, {Entries: 3, Names: 11, Bytes: 12},
-		{}, {Entries: -1, Names: 11, Bytes: 13}, {Entries: 3, Names: -1, Bytes: 13}, {Entries: 3, Names: 11, Bytes: -1},
-		{Entries: math.MinInt, Names: math.MinInt, Bytes: math.MinInt},
-	} {
+	for _, q := range lessThan(just) {
 		refusesList(t, fmt.Sprint(q), l.archive(), q, crate.ErrQuota)
 		refusesList(t, fmt.Sprint(q), l.wideArchive(), q, crate.ErrQuota)
 	}

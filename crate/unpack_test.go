@@ -1,7 +1,6 @@
 package crate_test
 
 import (
-	"archive/zip"
 	"fmt"
 	"io"
 	"math"
@@ -272,12 +271,8 @@ func TestUnpackOfArchivesOfAnotherWriter(t *testing.T) {
 
 func unpackByLibrary(t *testing.T, archive string) []crate.File {
 	t.Helper()
-	reader, err := zip.NewReader(strings.NewReader(archive), int64(len(archive)))
-	if err != nil {
-		t.Fatal(err)
-	}
 	var list []crate.File
-	for _, f := range reader.File {
+	for _, f := range readByLibrary(t, archive) {
 		in, err := f.Open()
 		if err != nil {
 			t.Fatal(err)
@@ -436,12 +431,9 @@ func TestUnpackOfTwoFaults(t *testing.T) {
 func TestUnpackQuotas(t *testing.T) {
 	archive := archiveOf(stored("a", "data"), stored("folder/", ""), inFixed("b/d", "123456789"))
 	want := []crate.File{file("a", "data"), file("b/", ""), file("b/d", "123456789"), file("folder/", "")}
-	unpacks(t, "just met", archive, crate.Quota{Entries: 3, Names: 11, Bytes: 13}, want...)
-	for _, q := range []crate.Quota{
-		{Entries: 2, Names: 11, Bytes: 13}, {Entries: 3, Names: 10, Bytes: 13}, {Entries: 3, Names: 11, Bytes: 12},
-		{}, {Entries: -1, Names: 11, Bytes: 13}, {Entries: 3, Names: -1, Bytes: 13}, {Entries: 3, Names: 11, Bytes: -1},
-		{Entries: math.MinInt, Names: math.MinInt, Bytes: math.MinInt},
-	} {
+	just := crate.Quota{Entries: 3, Names: 11, Bytes: 13}
+	unpacks(t, "just met", archive, just, want...)
+	for _, q := range lessThan(just) {
 		refusesUnpack(t, fmt.Sprint(q), archive, q, crate.ErrQuota)
 	}
 	refusesUnpack(t, "nothing, and less allowed", nothing, crate.Quota{Bytes: -1}, crate.ErrQuota)
