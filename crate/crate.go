@@ -38,24 +38,3 @@ type Quota struct{ Entries, Names, Bytes int }
 
 // File is a file, or a folder ("/" behind its path, no data).
 type File struct{ Path, Data string }
-
-// Store keeps what was unpacked.
-type Store struct{}
-
-// NewStore makes a store.
-func NewStore() *Store { return &Store{} }
-
-// Extract unpacks an archive into a folder (P6).
-func (s *Store) Extract(folder string, archive string, q Quota) Errno { return OK }
-
-// Cut says how many steps can be made (P6).
-func (s *Store) Cut(n int, fails bool) Errno { return OK }
-
-// Boot gives the power back (P6).
-func (s *Store) Boot() {}
-
-// Folders tells the folders that are shown (P7).
-func (s *Store) Folders() []string { return nil }
-
-// Files tells what a folder has (P7).
-func (s *Store) Files(folder string) ([]File, Errno) { return nil, OK }

@@ -17,8 +17,12 @@ func Unpack(archive string, q Quota) ([]File, Errno) {
 		return nil, e
 	}
 	all = append(all, foldersOf(entries)...)
-	slices.SortFunc(all, func(a, b File) int { return comparePaths(a.Path, b.Path) })
+	sortByPath(all)
 	return all, OK
+}
+
+func sortByPath(files []File) {
+	slices.SortFunc(files, func(a, b File) int { return comparePaths(a.Path, b.Path) })
 }
 
 // filesOf unpacks the files, in the order of the entries, up to the first fault.
