@@ -37,7 +37,8 @@ const (
 
 // plain writes a PLAIN block; it begins at a new byte behind its three bits.
 func (p *packer) plain(last int, data string) *packer {
-	p.number(last, 1).number(0, 2).number(0, (8-len(p.bits)%8)%8)
+	p.number(last, 1).number(0, 2)
+	p.number(0, (8-len(p.bits)%8)%8)
 	p.number(len(data), 16).number(65535-len(data), 16)
 	for i := range len(data) {
 		p.number(int(data[i]), 8)

@@ -66,7 +66,9 @@ func takeListed(r *fieldReader) (listed, bool) {
 	}
 	three := fieldReader{rest: l.three}
 	l.Sum, l.Packed, l.Size = uint32(three.number(4)), three.number(4), three.number(4)
-	return l, takeMeant(extras, &l.Size, &l.Packed, &l.span.begin)
+	// Not within the return: the language leaves open whether that reads l ahead of the call.
+	ok := takeMeant(extras, &l.Size, &l.Packed, &l.span.begin)
+	return l, ok
 }
 
 // takeMeant puts in place of each number that is elsewhere the one that is

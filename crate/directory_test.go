@@ -140,6 +140,24 @@ func TestNumbersInExtras(t *testing.T) {
 	}
 }
 
+// TestNumbersThatAreMeantAreTold: each alone and all together, of a plain file,
+// and not the four bytes that are all ones.
+func TestNumbersThatAreMeantAreTold(t *testing.T) {
+	for _, wide := range wides() {
+		it := stored("a", "x")
+		it.wide = wide
+		lists(t, wide+"alone", archiveOf(it), anything,
+			[]crate.Entry{{Name: "a", Sum: 0x8CDC1683, Packed: 1, Size: 1, Place: 31}})
+		unpacks(t, wide+"alone", archiveOf(it), anything, file("a", "x"))
+		two := archiveOf(stored("b", "data"), it)
+		lists(t, wide+"behind another", two, anything, []crate.Entry{
+			{Name: "b", Sum: 0xADF3F363, Packed: 4, Size: 4, Place: 31},
+			{Name: "a", Sum: 0x8CDC1683, Packed: 1, Size: 1, Place: 35 + 31},
+		})
+		unpacks(t, wide+"behind another", two, anything, file("a", "x"), file("b", "data"))
+	}
+}
+
 // TestNumbersUpToTwoToTheFortieth, of which one more is refused at once.
 func TestNumbersUpToTwoToTheFortieth(t *testing.T) {
 	const most = 1 << 40

@@ -83,7 +83,8 @@ func (f *inflater) plain() Errno {
 		return ErrData
 	}
 	count := min(n, f.in.bytesLeft(), f.room())
-	f.given = append(f.given, f.in.wholeBytes(count)...)
+	bytes := f.in.wholeBytes(count)
+	f.given = append(f.given, bytes...)
 	switch {
 	case count == n:
 		return OK

@@ -22,8 +22,11 @@ func List(archive string, q Quota) ([]Entry, Errno) {
 		return nil, ErrQuota
 	case anyTwice(list):
 		return nil, ErrTwice
-	case !findSpans(list, archive[:d.place]):
+	}
+	if !findSpans(list, archive[:d.place]) {
 		return nil, ErrHeader
+	}
+	switch {
 	case anyOverlap(list):
 		return nil, ErrOverlap
 	case !within(q.Bytes, list, fileSize):
@@ -57,6 +60,8 @@ func anyTwice(list []listed) bool {
 	return false
 }
 
+// findSpans enters into a list where the spans lie; false if one of them is not
+// as the directory says.
 func findSpans(list []listed, ahead string) bool {
 	for i := range list {
 		if !list[i].findSpan(ahead) {
